@@ -1,0 +1,1 @@
+"""Heardtrue: a modem in whole numbers."""

@@ -1,0 +1,94 @@
+"""The interface of the document: its names, its arguments and its examples, as they are written there."""
+
+import doctest
+import importlib
+import inspect
+import unittest
+
+NAMES = {
+    "points": ["plus(one, other)", "minus(one, other)", "times(one, other)", "turned(point, quarters)", "size(point)",
+               "total(points)"],
+    "symbols": ["number_of(bits)", "bits_of(number, many)", "check_symbols(symbols)", "levels(bits)", "square(bits)",
+                "points_of(symbols, row)", "nearest(symbols, point)", "row_near(symbols, points)", "closeness(symbols)"],
+    "lines": ["check_line(line)", "reach(line)", "sent(line, points)", "joined(one, other)",
+              "turned_line(line, quarters)", "spoiled(samples, noise)", "lost(samples, places)", "cost(samples, points)"],
+    "machines": ["is_machine(thing)", "check_machine(machine)", "shift_machine(polys)", "choices_of(machine, row)",
+                 "row_of(machine, choices)", "run(machine, state, choices)", "ways_back(machine, steps)",
+                 "tail_steps(machine, unit)"],
+    "composing": ["behind(first, second)", "reached(machine)", "reduced(machine)", "unlike(first, second)",
+                  "loses(machine)", "delay(machine)"],
+}
+CLASSES = {"errors": ["HeardError", "ShapeError", "ReadError"]}
+
+EXAMPLES = {
+    "symbols": """
+>>> from heardtrue.symbols import closeness, levels, points_of, row_near, square
+>>> [levels(2), closeness(levels(2)), closeness(square(2))]
+[('symbols', 2, ((-3, 0), (-1, 0), (3, 0), (1, 0))), 4, 4]
+>>> [points_of(square(2), [0, 1, 1, 1]), row_near(square(2), [(0, 9), (5, -2)])]
+[[(-1, 1), (1, 1)], [0, 1, 1, 0]]
+""",
+    "lines": """
+>>> from heardtrue.lines import cost, joined, sent
+>>> line = ("line", ((2, 0), (0, 1)))
+>>> [sent(line, [(1, 1), (-1, 0)]), joined(line, ("line", ((1, 0), (0, -1))))]
+[[(2, 2), (-3, 1), (0, -1)], ('line', ((2, 0), (0, -1), (1, 0)))]
+>>> cost([(2, 2), None, (0, 1)], sent(line, [(1, 1), (-1, 0)]))
+4
+""",
+    "machines": """
+>>> from heardtrue.machines import shift_machine, run, tail_steps, ways_back
+>>> machine = shift_machine((7, 5))
+>>> machine[3]
+((0, 2), (0, 2), (1, 3), (1, 3))
+>>> run(machine, 0, [1, 0, 1])
+(2, [1, 1, 1, 0, 0, 0])
+>>> [ways_back(machine, 1), ways_back(machine, 2)[3], tail_steps(machine, 1), tail_steps(machine, 3)]
+[{0: [0], 1: [0]}, [0, 0], 2, 3]
+""",
+    "composing": """
+>>> from heardtrue.composing import behind, delay, loses, reduced, unlike
+>>> from heardtrue.machines import shift_machine
+>>> [loses(shift_machine((7, 5))), delay(shift_machine((7, 5))), loses(shift_machine((0, 0)))]
+[None, 0, ('merge', [0], [1])]
+>>> late = ("machine", 1, 1, ((0, 1), (0, 1)), (((0,), (0,)), ((1,), (1,))))
+>>> [delay(late), len(reduced(behind(shift_machine((1,)), shift_machine((3, 1))))[3])]
+[1, 2]
+>>> loses(("machine", 1, 1, ((1, 2), (1, 1), (2, 2)), (((0,), (0,)), ((0,), (1,)), ((0,), (1,)))))
+('ring', [0], [1], [0], [0])
+>>> unlike(shift_machine((7, 5)), shift_machine((7, 7)))
+[1, 0]
+""",
+}
+
+
+def module(name):
+    return importlib.import_module(f"heardtrue.{name}")
+
+
+class Names(unittest.TestCase):
+    def test_functions_and_their_arguments(self):
+        for name, calls in NAMES.items():
+            for call in calls:
+                function = getattr(module(name), call.split("(")[0])
+                self.assertEqual(function.__name__ + str(inspect.signature(function)), call)
+
+    def test_all_stand_in_their_own_file(self):
+        for name, calls in list(NAMES.items()) + list(CLASSES.items()):
+            for call in calls:
+                self.assertEqual(getattr(module(name), call.split("(")[0]).__module__, f"heardtrue.{name}")
+
+
+class Examples(unittest.TestCase):
+    def test_each_example_as_it_is_written(self):
+        for name, text in EXAMPLES.items():
+            example = doctest.DocTestParser().get_doctest(text, {}, name, None, 0)
+            told = []
+            runner = doctest.DocTestRunner()
+            runner.run(example, out=told.append)
+            self.assertGreater(runner.tries, 0)
+            self.assertEqual("".join(told), "")
+
+
+if __name__ == "__main__":
+    unittest.main()
