@@ -4,6 +4,9 @@ import doctest
 import importlib
 import inspect
 import unittest
+from pathlib import Path
+
+README = Path(__file__).resolve().parent.parent / "README.md"
 
 NAMES = {
     "points": ["plus(one, other)", "minus(one, other)", "times(one, other)", "turned(point, quarters)", "size(point)",
@@ -17,8 +20,24 @@ NAMES = {
                  "tail_steps(machine, unit)"],
     "composing": ["behind(first, second)", "reached(machine)", "reduced(machine)", "unlike(first, second)",
                   "loses(machine)", "delay(machine)"],
+    "senders": ["check_sender(sender)", "sizes(sender)", "block(sender, state, label)", "blocks_of(sender)",
+                "tail(sender)", "ways_home(sender, blocks)", "labels_in(sender, row)", "tied(sender, row)",
+                "points_for(sender, row)", "walked(sender, labels)"],
+    "trellises": ["is_trellis(thing)", "check_trellis(trellis)", "cost_of(trellis, labels)", "best_path(trellis)",
+                  "apart(trellis, labels)", "two_best(trellis)"],
+    "potentials": ["potentials_of(trellis)", "are_right(trellis, table)", "least_end(trellis, table)",
+                   "paper_of(trellis)", "check_paper(trellis, paper)"],
+    "smears": ["first_room(line)", "step(sender, line, room, label)", "silence(sender, line, room)",
+               "room_rows(sender, line, blocks)", "run_size(sender, line, blocks)",
+               "trellis_of(sender, line, blocks, samples)"],
+    "runs": ["run_samples(sender, line, row)", "hear_run(sender, line, blocks, samples)",
+             "check_run(sender, line, blocks, samples, paper)", "blocks_in(sender, row)"],
 }
-CLASSES = {"errors": ["HeardError", "ShapeError", "ReadError"]}
+CLASSES = {"errors": ["HeardError", "ShapeError", "ReadError"], "pairs": ["Pairs"]}
+METHODS = {
+    ("pairs", "Pairs"): ["__init__(self, parts)", "begin(self, state)", "is_together(self, room)",
+                         "step(self, room, one, other)", "silence(self, room)", "trellis(self, blocks)"],
+}
 
 EXAMPLES = {
     "symbols": """
@@ -59,6 +78,48 @@ EXAMPLES = {
 >>> unlike(shift_machine((7, 5)), shift_machine((7, 7)))
 [1, 0]
 """,
+    "senders": """
+>>> from heardtrue.machines import shift_machine
+>>> from heardtrue.senders import points_for, sizes, tail, tied
+>>> from heardtrue.symbols import levels
+>>> sender = ("sender", shift_machine((7, 5)), ((1, 1), (0, 1)), levels(1))
+>>> [sizes(sender), tail(sender), tied(sender, [1, 1])]
+[(2, 3), (1, {0: [0], 1: [0], 2: [0], 3: [0]}), [1, 1, 0, 0]]
+>>> points_for(sender, [1, 1])
+[(1, 0), (1, 0), (1, 0)]
+""",
+    "trellises": """
+>>> from heardtrue.trellises import apart, best_path, cost_of, two_best
+>>> trellis = ("trellis", (1, 2, 1), [[(0, 0, 0, 3), (0, 1, 1, 1)], [(0, 0, 0, 0), (1, 0, 0, 2), (1, 0, 1, 4)]], (0,))
+>>> [best_path(trellis), two_best(trellis), cost_of(trellis, [1, 1]), cost_of(trellis, [0, 1])]
+[([0, 0], 3), [([0, 0], 3), ([1, 0], 3)], 5, None]
+>>> apart(trellis, [0, 0])[1]
+(1, 3, 2)
+>>> apart(trellis, [0, 0])[2]
+[[(0, 2, 0, 3), (0, 1, 1, 1)], [(0, 0, 0, 0), (1, 0, 0, 2), (1, 0, 1, 4), (2, 1, 0, 0)]]
+""",
+    "potentials": """
+>>> from heardtrue.potentials import check_paper, paper_of
+>>> trellis = ("trellis", (1, 1), [[(0, 0, 0, 5), (0, 0, 3, 2)]], (0,))
+>>> paper_of(trellis)
+('one', [3], [[0], [5, 2]])
+>>> [check_paper(trellis, paper_of(trellis)), check_paper(trellis, ("one", [3], [[0], [4, 0]])), check_paper(trellis, ("one", [0], [[0], [2, 5]]))]
+[('one', [3], 2, 3), ('one', [3], 2, 2), None]
+""",
+    "runs": """
+>>> from heardtrue.machines import shift_machine
+>>> from heardtrue.runs import hear_run, run_samples
+>>> from heardtrue.symbols import levels
+>>> sender = ("sender", shift_machine((7, 5)), ((1, 1),), levels(1))
+>>> line = ("line", ((1, 0), (1, 0)))
+>>> clear = run_samples(sender, line, [1, 0])
+>>> clear
+[(1, 0), (2, 0), (2, 0), (0, 0), (0, 0), (2, 0), (0, 0), (-2, 0), (-1, 0)]
+>>> hear_run(sender, line, 2, clear)[0]
+('row', [1, 0], 0, 32)
+>>> hear_run(sender, line, 2, [None] * 9)[0]
+('tie', [0, 0], [0, 1], 0)
+""",
 }
 
 
@@ -78,16 +139,30 @@ class Names(unittest.TestCase):
             for call in calls:
                 self.assertEqual(getattr(module(name), call.split("(")[0]).__module__, f"heardtrue.{name}")
 
+    def test_methods_stand_in_their_own_class(self):
+        for (name, owner), calls in METHODS.items():
+            held = vars(getattr(module(name), owner))
+            for call in calls:
+                method = held[call.split("(")[0]]
+                self.assertEqual(method.__name__ + str(inspect.signature(method)), call)
+
 
 class Examples(unittest.TestCase):
+    def holds(self, name, text):
+        example = doctest.DocTestParser().get_doctest(text, {}, name, None, 0)
+        told = []
+        runner = doctest.DocTestRunner()
+        runner.run(example, out=told.append)
+        self.assertGreater(runner.tries, 0)
+        self.assertEqual("".join(told), "")
+
     def test_each_example_as_it_is_written(self):
         for name, text in EXAMPLES.items():
-            example = doctest.DocTestParser().get_doctest(text, {}, name, None, 0)
-            told = []
-            runner = doctest.DocTestRunner()
-            runner.run(example, out=told.append)
-            self.assertGreater(runner.tries, 0)
-            self.assertEqual("".join(told), "")
+            self.holds(name, text)
+
+    def test_those_of_the_readme(self):
+        fenced = README.read_text().split("```\n")[1::2]
+        self.holds("README", "\n".join(part for part in fenced if part.startswith(">>>")))
 
 
 if __name__ == "__main__":

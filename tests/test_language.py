@@ -138,9 +138,18 @@ class Names(unittest.TestCase):
                             self.assertNotIn(alias.name, names_bound(function), path)
 
     def test_methods(self):
+        own = [node.name for _, owner in nodes(ast.ClassDef) for node in owner.body if isinstance(node, ast.FunctionDef)]
         for path, node in nodes(ast.Call):
             if isinstance(node.func, ast.Attribute):
-                self.assertIn(node.func.attr, METHODS, (path, node.lineno))
+                self.assertIn(node.func.attr, METHODS + own, (path, node.lineno))
+
+    def test_methods_and_attributes_have_different_names(self):
+        for path, owner in nodes(ast.ClassDef):
+            own = [node.name for node in owner.body if isinstance(node, ast.FunctionDef)]
+            self.assertEqual(len(own), len(set(own)), path)
+            for node in ast.walk(owner):
+                if isinstance(node, ast.Attribute) and isinstance(node.ctx, ast.Store):
+                    self.assertNotIn(node.attr, own + METHODS, (path, node.lineno))
 
 
 if __name__ == "__main__":

@@ -4,32 +4,7 @@ import random
 import unittest
 
 from heardtrue.lines import check_line, cost, joined, lost, reach, sent, spoiled, turned_line
-from support import fault, stands_alone
-
-
-def line_of(*taps):
-    return ("line", tuple(taps))
-
-
-def any_points(source, many, most):
-    return [(source.randint(-most, most), source.randint(-most, most)) for _ in range(many)]
-
-
-def any_line(source, many, most):
-    return line_of((1, -1), *any_points(source, many - 1, most))
-
-
-def by_hand(line, points):
-    """The sum of point 2.5, word by word."""
-    samples = []
-    for t in range(len(points) + len(line[1]) - 1 if points else 0):
-        x = y = 0
-        for j, (a, b) in enumerate(line[1]):
-            if 0 <= t - j < len(points):
-                c, d = points[t - j]
-                x, y = x + a * c - b * d, y + a * d + b * c
-        samples.append((x, y))
-    return samples
+from support import any_line, any_points, fault, line_of, smeared_by_hand, stands_alone
 
 
 class Checked(unittest.TestCase):
@@ -94,7 +69,7 @@ class Sent(unittest.TestCase):
         for taps in range(1, 5):
             for many in range(8):
                 line, points = any_line(source, taps, 50), any_points(source, many, 10 ** 9)
-                self.assertEqual(sent(line, points), by_hand(line, points))
+                self.assertEqual(sent(line, points), smeared_by_hand(line, points))
                 self.assertEqual(len(sent(line, points)), many + taps - 1 if many else 0)
 
 

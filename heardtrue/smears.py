@@ -1,0 +1,92 @@
+"""The rooms of a run while it is sent over a line, and its trellis."""
+
+from heardtrue.errors import ShapeError
+from heardtrue.lines import cost, reach, smeared
+from heardtrue.senders import block, blocks_of, sizes, tail_blocks, ways_home
+from heardtrue.trellises import grown, trellis_through
+
+
+def first_room(line):
+    """The room in which a run begins."""
+    return (0, no_lasts(line))
+
+
+def no_lasts(line):
+    """The last points of silence."""
+    return ((0, 0),) * reach(line)
+
+
+def onward(line, lasts, points):
+    """The last points behind some more points, and the samples of these."""
+    reached = lasts + points
+    samples = smeared(line[1], reached)[len(lasts):len(reached)]
+    return (reached[len(points):], samples)
+
+
+def outward(line, lasts):
+    """The samples behind the last points."""
+    return smeared(line[1], lasts)[len(lasts):]
+
+
+def step(sender, line, room, label):
+    """The room behind a block, and the samples of the block."""
+    state, points = block(sender, room[0], label)
+    lasts, samples = onward(line, room[1], points)
+    return ((state, lasts), samples)
+
+
+def silence(sender, line, room):
+    """The samples behind the last point."""
+    return outward(line, room[1])
+
+
+def homes_of(sender):
+    """For each number of blocks that can be left of the tail, from 0 on, a dict from states to the least labels."""
+    return [ways_home(sender, left) for left in range(tail_blocks(sender) + 1)]
+
+
+def stages_of(sender, line, blocks):
+    """The stages of a run, whose steps tell samples, and the rooms behind them."""
+    _, bits, nexts, points = blocks_of(sender)
+    homes = homes_of(sender)
+
+    def steps_of(room, left):
+        state, lasts = room
+        steps = []
+        for label in list(range(1 << bits)) if left is None else homes[left][state][:1]:
+            behind, samples = onward(line, lasts, points[state][label])
+            steps.append((label, (nexts[state][label], behind), samples))
+        return steps
+
+    return grown(first_room(line), blocks, len(homes) - 1, steps_of)
+
+
+def room_rows(sender, line, blocks):
+    """The ascending lists of the rooms of all times of a run, the silence not counted."""
+    stages, rooms = stages_of(sender, line, blocks)
+    return [list(stage) for stage in stages] + [rooms]
+
+
+def run_size(sender, line, blocks):
+    """The number of the samples of a run."""
+    _, points = sizes(sender)
+    return (blocks + tail_blocks(sender)) * points + reach(line)
+
+
+def trellis_of(sender, line, blocks, samples):
+    """The trellis of a run for samples."""
+    if len(samples) != run_size(sender, line, blocks):
+        raise ShapeError("samples")
+    _, many = sizes(sender)
+    stages, rooms = stages_of(sender, line, blocks)
+    paid = [paid_stage(stage, samples[at * many:at * many + many]) for at, stage in enumerate(stages)]
+    rest = samples[len(stages) * many:]
+    paid.append({room: [(0, None, cost(rest, outward(line, room[1])))] for room in rooms})
+    return trellis_through(paid)
+
+
+def paid_stage(stage, samples):
+    """A stage whose steps tell the costs of their samples against those that came."""
+    return {
+        room: [(label, after, cost(samples, clear)) for label, after, clear in steps] for room, steps in stage.items()
+    }
