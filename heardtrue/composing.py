@@ -55,6 +55,16 @@ def walk_to(came, room):
     return walk
 
 
+def way_round(begin, steps_of):
+    """The shortest and then least way of at least one step from a room back to it, or None."""
+    came = found_from(begin, steps_of)
+    for room in came:
+        for step, after in steps_of(room):
+            if after == begin:
+                return walk_to(came, room) + [step]
+    return None
+
+
 def reached(machine):
     """The states that can be reached from 0, in the order in which they are found first."""
     return list(found_from(0, lambda state: list(enumerate(machine[3][state]))))
@@ -127,16 +137,6 @@ def sides(walk):
     return ([one for one, _ in walk], [other for _, other in walk])
 
 
-def way_round(machine, pair):
-    """The first pair walk of at least one step from a pair back to it, or None."""
-    came = pairs_found(machine, pair)
-    for room in came:
-        for step, after in pair_steps(machine, room):
-            if after == pair:
-                return walk_to(came, room) + [step]
-    return None
-
-
 def loses(machine):
     """How the machine loses what it takes, by meeting or by a ring, or None."""
     came = pairs_found(machine, (0, 0, False))
@@ -145,7 +145,7 @@ def loses(machine):
         if pair[0] == pair[1]:
             return ("merge", *sides(walk_to(came, pair)))
     for pair in parted:
-        ring = way_round(machine, pair)
+        ring = way_round(pair, lambda room: pair_steps(machine, room))
         if ring is not None:
             return ("ring", *sides(walk_to(came, pair)), *sides(ring))
     return None

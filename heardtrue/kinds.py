@@ -24,3 +24,18 @@ def is_tuple_between(thing, many, low, high):
 def is_word(thing, word):
     """True for just this string."""
     return isinstance(thing, str) and thing == word
+
+
+def is_named(thing, name, many):
+    """True for a tuple of so many things whose first one is a name."""
+    return is_tuple(thing, many) and many > 0 and is_word(thing[0], name)
+
+
+def is_list_between(thing, many, low, high):
+    """True for a list of so many integers from low to high."""
+    return isinstance(thing, list) and len(thing) == many and all([is_between(item, low, high) for item in thing])
+
+
+def is_point(thing):
+    """True for a pair of integers."""
+    return is_tuple(thing, 2) and is_integer(thing[0]) and is_integer(thing[1])

@@ -3,7 +3,7 @@
 from heardtrue.errors import ShapeError
 from heardtrue.lines import cost, reach, smeared
 from heardtrue.senders import block, blocks_of, sizes, tail_blocks, ways_home
-from heardtrue.trellises import grown, trellis_through
+from heardtrue.trellises import grown, moments, trellis_through
 
 
 def first_room(line):
@@ -45,20 +45,32 @@ def homes_of(sender):
     return [ways_home(sender, left) for left in range(tail_blocks(sender) + 1)]
 
 
-def stages_of(sender, line, blocks):
-    """The stages of a run, whose steps tell samples, and the rooms behind them."""
-    _, bits, nexts, points = blocks_of(sender)
-    homes = homes_of(sender)
+class Rooms:
+    """The rooms of the runs of a sender over a line, and the steps from them."""
 
-    def steps_of(room, left):
+    def __init__(self, sender, line):
+        _, self.bits, self.nexts, self.points = blocks_of(sender)
+        self.line = line
+        self.homes = homes_of(sender)
+
+    def steps(self, room, left):
+        """The steps from a room, with the samples of a block; one alone if so many blocks of the tail are left."""
         state, lasts = room
         steps = []
-        for label in list(range(1 << bits)) if left is None else homes[left][state][:1]:
-            behind, samples = onward(line, lasts, points[state][label])
-            steps.append((label, (nexts[state][label], behind), samples))
+        for label in list(range(1 << self.bits)) if left is None else self.homes[left][state][:1]:
+            behind, samples = onward(self.line, lasts, self.points[state][label])
+            steps.append((label, (self.nexts[state][label], behind), samples))
         return steps
 
-    return grown(first_room(line), blocks, len(homes) - 1, steps_of)
+    def marks(self, blocks):
+        """The marks of the stages of so many blocks and of the tail."""
+        return moments(blocks, len(self.homes) - 1)
+
+
+def stages_of(sender, line, blocks):
+    """The stages of a run, whose steps tell samples, and the rooms behind them."""
+    rooms = Rooms(sender, line)
+    return grown(first_room(line), rooms.marks(blocks), rooms.steps)
 
 
 def room_rows(sender, line, blocks):

@@ -138,29 +138,44 @@ def two_best(trellis):
     return [best] if second is None else [best, second]
 
 
-def grown(begin, blocks, tail, steps_of):
-    """The stages of so many blocks and so many blocks of a tail, from a room on, and the rooms behind them, ascending.
+def moments(blocks, tail):
+    """For each block of a run None, and for each one of its tail how many are left of it."""
+    return [None] * blocks + list(reversed(range(1, tail + 1)))
+
+
+def grown(begin, marks, steps_of):
+    """The stages of a run, one for each of the marks, from a room on, and the rooms behind them, ascending.
 
     A stage is a dict from the rooms of a time, ascending, to their steps: a label, the room behind, and what is heard
-    or paid. The steps of a room are told by how many blocks of the tail are left, or None ahead of the tail.
+    or paid. The steps of a room are told by the mark of the stage, which says where in the run it stands.
     """
     stages = []
     rooms = [begin]
     known = {}
-    for left in [None] * blocks + list(reversed(range(1, tail + 1))):
+    for mark in marks:
         stage = {}
         for room in rooms:
-            if (room, left) not in known:
-                known[(room, left)] = steps_of(room, left)
-            stage[room] = known[(room, left)]
+            if (room, mark) not in known:
+                known[(room, mark)] = steps_of(room, mark)
+            stage[room] = known[(room, mark)]
         stages.append(stage)
         rooms = sorted({after for steps in stage.values() for _, after, _ in steps})
     return (stages, rooms)
 
 
-def trellis_through(stages):
-    """The trellis of stages whose steps tell costs; those of the last one lead to None, the only room behind it."""
-    rows = [list(stage) for stage in stages] + [[None]]
+def thinned(steps):
+    """Of ascending steps that tell costs the cheapest one to each room, of several ones the first; ascending."""
+    firsts = {}
+    for step in steps:
+        _, after, cost = step
+        if after not in firsts or cost < firsts[after][2]:
+            firsts[after] = step
+    return sorted(firsts.values())
+
+
+def layers_through(stages, last):
+    """The widths and the layers of a trellis of stages whose steps tell costs, with the rooms behind the last one."""
+    rows = [list(stage) for stage in stages] + [last]
     layers = []
     for at, stage in enumerate(stages):
         places = {room: place for place, room in enumerate(rows[at + 1])}
@@ -168,4 +183,10 @@ def trellis_through(stages):
             (place, places[after], label, cost)
             for place, steps in enumerate(stage.values()) for label, after, cost in steps
         ])
-    return ("trellis", tuple([len(row) for row in rows]), layers, (0,))
+    return (tuple([len(row) for row in rows]), layers)
+
+
+def trellis_through(stages):
+    """The trellis of stages whose steps tell costs; those of the last one lead to None, the only room behind it."""
+    widths, layers = layers_through(stages, [None])
+    return ("trellis", widths, layers, (0,))

@@ -180,3 +180,137 @@ def cases(seed, many, most=64):
 def any_samples(source, many):
     """Samples of which some are lost."""
     return [None if source.random() < 0.2 else point for point in any_points(source, many, 9)]
+
+
+def labels_side_by_side(sender, labels, others):
+    """The labels of a pair of rows, block by block."""
+    return [one * 2 ** block_bits(sender) + other for one, other in zip(labels, others)]
+
+
+class SlowWays:
+    """Ways of pairs of rows over a line, step by step."""
+
+    def __init__(self, sender, line):
+        self.sender, self.line = sender, line
+        self.many = 2 ** block_bits(sender)
+        self.silent = ((0, 0),) * reach(line)
+        self.known = {}
+
+    def begin(self, state):
+        return (state, state, (self.silent,), False)
+
+    def together(self, room):
+        return room[0] == room[1] and room[2] == (self.silent,)
+
+    def step(self, room, one, other):
+        state, beside, (lasts,), parted = room
+        after, points = block_by_hand(self.sender, state, one)
+        behind, others = block_by_hand(self.sender, beside, other)
+        apart = list(lasts) + [(p[0] - q[0], p[1] - q[1]) for p, q in zip(points, others)]
+        samples = smeared_by_hand(self.line, apart)[len(lasts):len(apart)]
+        last = tuple(apart[len(apart) - len(lasts):])
+        return (after, behind, (last,), parted or one != other), cost_by_hand(samples, [(0, 0)] * len(samples))
+
+    def steps(self, room):
+        """All labels of pairs from a room, ascending, with the rooms behind and the distances."""
+        if room not in self.known:
+            self.known[room] = [
+                (one * self.many + other, *self.step(room, one, other))
+                for one in range(self.many) for other in range(0 if room[3] else one, self.many)
+            ]
+        return self.known[room]
+
+    def starts(self):
+        found = {0}
+        while True:
+            more = found | {block_by_hand(self.sender, state, label)[0] for state in found for label in range(self.many)}
+            if more == found:
+                return sorted(found)
+            found = more
+
+    def partings(self):
+        return [(after, spent) for state in self.starts() for _, after, spent in self.steps(self.begin(state)) if after[3]]
+
+    def free(self):
+        """The free distance, and the least distances of all rooms that are not together, by relaxing them again and again."""
+        table = {}
+        ends = []
+
+        def relax(steps):
+            changed = False
+            for after, spent in steps:
+                if self.together(after):
+                    ends.append(spent)
+                elif spent < table.get(after, spent + 1):
+                    table[after] = spent
+                    changed = True
+            return changed
+
+        relax(self.partings())
+        while any([relax([(after, table[room] + cost) for _, after, cost in self.steps(room)]) for room in list(table)]):
+            pass
+        return min(ends), table
+
+    def bears(self, free, told):
+        """Point 8.2, by its words, for the distance of the rows and a dict of a table."""
+        steps, seen = list(self.partings()), set()
+        while steps:
+            after, spent = steps.pop()
+            if self.together(after):
+                if spent < free:
+                    return False
+            elif after not in told or told[after] > spent:
+                return False
+            elif after not in seen:
+                seen.add(after)
+                steps += [(room, told[after] + cost) for _, room, cost in self.steps(after)]
+        return True
+
+    def found(self, begin, allowed):
+        """A dict from rooms to their shortest and then least ways, in their order; a way is a list of labels.
+
+        `allowed` tells for a room, and the room and the distance behind a step, if the step may be gone.
+        """
+        ways, last = {begin: []}, {begin: []}
+        while last:
+            longer = sorted(
+                (way + [label], after) for room, way in last.items() for label, after, spent in self.steps(room)
+                if allowed(room, after, spent)
+            )
+            last = {}
+            for way, after in longer:
+                if after not in ways and after not in last:
+                    last[after] = way
+            ways.update(last)
+        return ways
+
+    def ring(self):
+        """The ways of point 8.3, or None."""
+        found = self.found(self.begin(0), lambda room, after, spent: not (room[3] and self.together(room)))
+        for room, way in found.items():
+            if room[3] and not self.together(room):
+                back = self.found(room, lambda at, after, spent: spent == 0 and not self.together(after))
+                round_ = sorted(
+                    (len(there), there + [label]) for at, there in back.items()
+                    for label, after, spent in self.steps(at) if after == room and spent == 0
+                )
+                if round_:
+                    return way, round_[0][1]
+        return None
+
+    def most_parted(self, cost):
+        """All ways of parted rows, as deep as they go."""
+        known = {}
+
+        def longest(room, left):
+            if (room, left) not in known:
+                known[(room, left)] = max(
+                    [0] + [1 + longest(after, left - spent) for _, after, spent in self.steps(room)
+                           if spent <= left and not self.together(after)]
+                )
+            return known[(room, left)]
+
+        return max([0] + [
+            1 + longest(after, cost - spent) for after, spent in self.partings()
+            if spent <= cost and not self.together(after)
+        ])

@@ -32,11 +32,44 @@ NAMES = {
                "trellis_of(sender, line, blocks, samples)"],
     "runs": ["run_samples(sender, line, row)", "hear_run(sender, line, blocks, samples)",
              "check_run(sender, line, blocks, samples, paper)", "blocks_in(sender, row)"],
+    "distances": ["pair_trellis(sender, line, blocks)", "nearest_pair(sender, line, blocks)",
+                  "distance(sender, line, blocks)", "distance_paper(sender, line, blocks)",
+                  "check_distance(sender, line, blocks, paper)", "halfway(sender, line, row, other)"],
+    "freedoms": ["free_distance(sender, line)", "free_paper(sender, line)", "check_free(sender, line, paper)",
+                 "ring(sender, line)", "most_parted(sender, line, cost)"],
+    "fields": ["is_primitive(m, poly)"],
+    "polynomials": ["trimmed(row)", "plus(f, g)", "times(field, f, g)", "divided(field, f, g)", "value(field, f, at)",
+                    "slope(f)", "roots(field, f)", "through(field, pairs)"],
+    "words": ["check_words(code)", "encode(code, symbols)", "is_word(code, row)", "signs(code, row)",
+              "mend(code, heard, gaps)", "is_mended(code, heard, gaps, word)"],
+    "mixing": ["check_mix(mix, words, n)", "order_of(mix, words, n)", "most_hit(mix, words, n, first, last)",
+               "worst(mix, words, n, length)", "check_delays(delays)", "delayed(delays, row)",
+               "undelayed(delays, row)"],
+    "checks": ["check_check(check)", "check_bits(check, row)", "is_right(check, row)", "span(check)",
+               "fewest_unseen(check, length)"],
+    "scramblers": ["check_scrambler(scrambler)", "check_feed(feed)", "key_of(scrambler, length)",
+                   "scrambled(scrambler, row)", "period(scrambler)", "fed(feed, row)", "unfed(feed, row)"],
+    "slips": ["slipped(samples, copies)", "slip_trellis(sender, line, blocks, most, samples, row=None)",
+              "hear_slipped(sender, line, blocks, most, samples)",
+              "check_slipped(sender, line, blocks, most, samples, paper)"],
+    "openings": ["check_opening(opening)", "turned(point, turn)", "shape(opening, line, turn)",
+                 "arrival(opening, lines, slack, guess)", "cost(opening, lines, guess, samples)",
+                 "find(opening, lines, slack, samples)", "separation(opening, lines, slack)"],
+    "frames": ["message_bits(link, message)", "words_for(link, message)", "rows_for(link, message)",
+               "frame_points(link, message)", "message_in(link, row)",
+               "frame_samples(link, message, *, place, turn, number)"],
 }
-CLASSES = {"errors": ["HeardError", "ShapeError", "ReadError"], "pairs": ["Pairs"]}
+CLASSES = {
+    "errors": ["HeardError", "ShapeError", "ReadError"], "pairs": ["Pairs"], "fields": ["Field"], "links": ["Link"],
+}
 METHODS = {
     ("pairs", "Pairs"): ["__init__(self, parts)", "begin(self, state)", "is_together(self, room)",
                          "step(self, room, one, other)", "silence(self, room)", "trellis(self, blocks)"],
+    ("fields", "Field"): ["__init__(self, m, poly)", "times(self, a, b)", "inverse(self, a)", "power(self, e)",
+                          "place(self, a)"],
+    ("links", "Link"): ["__init__(self, *, opening, lines, slack, sender, code, words, mix, check, scrambler, runs)",
+                        "told_bits(self)", "sent_bits(self)", "most_bytes(self)", "blocks(self)", "run_points(self)",
+                        "run_start(self, run)", "frame_points(self)", "many_samples(self)"],
 }
 
 EXAMPLES = {
@@ -119,6 +152,96 @@ EXAMPLES = {
 ('row', [1, 0], 0, 32)
 >>> hear_run(sender, line, 2, [None] * 9)[0]
 ('tie', [0, 0], [0, 1], 0)
+""",
+    "distances": """
+>>> from heardtrue.distances import check_distance, distance, distance_paper, halfway, nearest_pair
+>>> from heardtrue.machines import shift_machine
+>>> from heardtrue.symbols import levels
+>>> sender, line = ("sender", shift_machine((1,)), ((1,),), levels(1)), ("line", ((1, 0), (1, 0)))
+>>> [nearest_pair(sender, line, 1), nearest_pair(sender, line, 2), distance(sender, line, 0)]
+[(8, [0], [1]), (8, [0, 0], [0, 1]), None]
+>>> check_distance(sender, line, 1, distance_paper(sender, line, 1))
+(8, [0], [1])
+>>> halfway(sender, line, [0, 1], [1, 1])
+[(0, 0), (1, 0), (1, 0)]
+""",
+    "freedoms": """
+>>> from heardtrue.freedoms import check_free, free_distance, free_paper, most_parted, ring
+>>> from heardtrue.machines import shift_machine
+>>> from heardtrue.symbols import levels
+>>> one = ("line", ((1, 0),))
+>>> sender = ("sender", shift_machine((7, 5)), ((1, 1),), levels(1))
+>>> [free_distance(sender, one), ring(sender, one), most_parted(sender, one, 4), most_parted(sender, one, 8)]
+[20, None, 0, 1]
+>>> check_free(sender, one, free_paper(sender, one))
+20
+>>> ring(("sender", shift_machine((3, 3)), ((1, 1),), levels(1)), one)
+('ring', [0], [1], [0], [1])
+""",
+    "fields": """
+>>> from heardtrue.fields import Field
+>>> field = Field(3, 11)
+>>> [field.times(6, 7), field.inverse(6), field.power(3), field.place(6), field.power(-1)]
+[4, 3, 3, 4, 5]
+""",
+    "polynomials": """
+>>> from heardtrue.fields import Field
+>>> from heardtrue.polynomials import divided, roots, times, value
+>>> field = Field(3, 11)
+>>> times(field, [2, 1], [4, 1])
+[3, 6, 1]
+>>> [roots(field, [3, 6, 1]), value(field, [3, 6, 1], 0), divided(field, [3, 6, 1], [2, 1])]
+[[2, 4], 3, ([4, 1], [])]
+""",
+    "words": """
+>>> from heardtrue.words import encode, mend
+>>> code = ("words", 3, 11, 7, 3)
+>>> encode(code, [1, 0, 0])
+[1, 0, 0, 6, 1, 6, 7]
+>>> mend(code, [1, 0, 5, 6, 1, 6, 3], [])
+([1, 0, 0, 6, 1, 6, 7], [2, 6], [])
+>>> mend(code, [1, 0, 5, 6, 1, 6, 3], [0, 2])
+([1, 0, 0, 6, 1, 6, 7], [6], [0, 2])
+>>> mend(code, [1, 0, 5, 6, 1, 6, 3], [0]) is None
+True
+""",
+    "mixing": """
+>>> from heardtrue.mixing import delayed, most_hit, order_of, undelayed
+>>> order_of(("mix", 2, 3), 2, 3)
+[(0, 0), (1, 0), (0, 1), (1, 1), (0, 2), (1, 2)]
+>>> [most_hit(("mix", 2, 3), 2, 3, 1, 4), most_hit(("mix", 3, 2), 2, 3, 0, 3)]
+[[1, 2], [2, 1]]
+>>> [delayed(("delays", 2, 1), [5, 6, 7, 8]), undelayed(("delays", 2, 1), [5, 0, 7, 6, 9, 8])]
+[[5, 0, 7, 6, 0, 8], [5, 6, 7, 8]]
+""",
+    "checks": """
+>>> from heardtrue.checks import check_bits, fewest_unseen, is_right, span
+>>> check = ("check", 3, 11)
+>>> [check_bits(check, [1, 0, 1, 1]), is_right(check, [1, 0, 1, 1, 0, 0, 0]), span(check)]
+[[0, 0, 0], True, 7]
+>>> [fewest_unseen(check, 3), fewest_unseen(check, 5), fewest_unseen(check, 8)]
+[None, (3, [0, 1, 0, 1, 1]), (2, [1, 0, 0, 0, 0, 0, 0, 1])]
+""",
+    "scramblers": """
+>>> from heardtrue.scramblers import fed, key_of, period, scrambled, unfed
+>>> [key_of(("scramble", 3, 11, 4), 8), period(("scramble", 3, 11, 4)), scrambled(("scramble", 3, 11, 4), [1, 1, 1, 1])]
+[[1, 0, 0, 1, 1, 1, 0, 1], 7, [0, 1, 1, 0]]
+>>> [fed(("feed", 2, 7), [1, 0, 0, 0]), unfed(("feed", 2, 7), [1, 1, 0, 1])]
+[[1, 1, 0, 1], [1, 0, 0, 0]]
+""",
+    "slips": """
+>>> from heardtrue.slips import slipped
+>>> slipped([(1, 0), (2, 0), (3, 0)], [1, 0, 2])
+[(1, 0), (3, 0), (3, 0)]
+""",
+    "openings": """
+>>> from heardtrue.openings import find, separation, shape
+>>> opening = ((2, 0), (0, 2), (2, 0))
+>>> lines = [("line", ((1, 0),)), ("line", ((1, 0), (1, 0)))]
+>>> shape(opening, lines[1], 1)
+[(0, 2), (-2, 2), (-2, 2)]
+>>> find(opening, lines, 2, [(0, 0), (0, 1), (-2, 2), (-2, 2), (0, 2)])
+(1, 1, 1)
 """,
 }
 

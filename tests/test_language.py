@@ -83,6 +83,9 @@ class Words(unittest.TestCase):
         for path, tree in trees():
             for node in [node for node in ast.walk(tree) if isinstance(node, ast.ImportFrom)]:
                 self.assertEqual(node.level, 0)
+                if node.module == "heapq":
+                    self.assertLessEqual({alias.name for alias in node.names}, {"heappush", "heappop"})
+                    continue
                 package, name = node.module.split(".")
                 self.assertEqual(package, "heardtrue")
                 source = ast.parse((PACKAGE / f"{name}.py").read_text())
@@ -97,10 +100,24 @@ class Words(unittest.TestCase):
         for path, node in nodes(ast.BinOp, ast.AugAssign):
             self.assertNotIsInstance(node.op, (ast.Div, ast.Pow, ast.MatMult), (path, node.lineno))
 
-    def test_no_decorators_annotations_or_defaults(self):
+    def test_no_decorators_and_plain_defaults(self):
         for path, node in nodes(ast.FunctionDef, ast.Lambda):
             self.assertFalse(getattr(node, "decorator_list", []), path)
-            self.assertFalse(node.args.defaults + node.args.kwonlyargs, path)
+            for default in node.args.defaults:
+                self.assertIsInstance(default, ast.Constant, path)
+            if isinstance(node, ast.Lambda):
+                self.assertFalse(node.args.defaults + node.args.kwonlyargs, path)
+
+    def test_targets_stand_in_no_brackets(self):
+        for path, node in nodes(ast.List):
+            self.assertIsInstance(node.ctx, ast.Load, (path, node.lineno))
+
+    def test_names_of_the_library_are_only_called(self):
+        for path, tree in trees():
+            called = [node.func for node in ast.walk(tree) if isinstance(node, ast.Call)]
+            for node in ast.walk(tree):
+                if isinstance(node, ast.Name) and node.id in ("heappush", "heappop"):
+                    self.assertIn(node, called, path)
 
     def test_no_percent_signs_and_escapes_in_strings(self):
         for path, tree in trees():
