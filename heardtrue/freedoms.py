@@ -65,7 +65,7 @@ def least_behind(pairs, costs, most):
     behind = {}
     for room, spent in costs.items():
         for _, after, distance in pairs.least_steps(room, None):
-            if spent + distance <= most and spent + distance <= behind.get(after, most):
+            if spent + distance <= behind.get(after, most):
                 behind[after] = spent + distance
     return behind
 
@@ -159,7 +159,7 @@ def walks_of(pairs, room):
 
 def free_steps(pairs, room):
     """The ascending labels of pairs that cost nothing and do not lead together, with the rooms behind."""
-    steps = pairs.class_steps(room).values()
+    steps = list(pairs.class_steps(room).values())
     return [(label, after) for label, after, spent in steps if spent == 0 and not pairs.is_together(after)]
 
 
@@ -181,7 +181,7 @@ def most_parted(sender, line, cost):
     pairs = Pairs([(sender, line)])
     costs = {}
     for after, distance in partings(pairs):
-        if distance <= min(cost, costs.get(after, cost)) and not pairs.is_together(after):
+        if distance <= costs.get(after, cost) and not pairs.is_together(after):
             costs[after] = distance
     blocks = 0
     while len(costs) > 0:

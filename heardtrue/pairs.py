@@ -7,7 +7,7 @@ from heardtrue.smears import homes_of, no_lasts, outward
 from heardtrue.trellises import grown, moments, thinned, trellis_through
 
 # More than twice as great as any difference of the parts of two symbols.
-BASE = 1 << 20
+BASE = 1048576
 
 
 def differences(points, others):
@@ -71,8 +71,8 @@ class Pairs:
         return [outward(line, last) for line, last in zip(self.lines, lasts)]
 
     def smear(self, state, beside, one, other):
-        """For each part the differences of the points, the first samples of them with silence ahead, and the size of
-        the others.
+        """For each part the differences of the points, their samples with silence ahead as far as last points would
+        reach, and the size of the other samples.
         """
         code = self.codes[state][one] - self.codes[beside][other]
         if code not in self.smears:

@@ -28,8 +28,8 @@ class Slips:
         if self.points > MOST_POINTS:
             raise ShapeError("slips")
         self.rooms = Rooms(sender, line)
-        self.begin = (0, first_room(line), 0, 0)
-        self.blocks = blocks
+        self.first = (0, first_room(line), 0, 0)
+        self.run_blocks = blocks
         self.most = most
         self.samples = samples
         self.insides = {}
@@ -40,7 +40,7 @@ class Slips:
 
         Behind the tail 0 stands for the silence. Without such a row, and behind its labels, there is None.
         """
-        lefts = self.rooms.marks(self.blocks) + [0]
+        lefts = self.rooms.marks(self.run_blocks) + [0]
         return list(zip(lefts, labels + [None] * (len(lefts) - len(labels))))
 
     def inside(self, room, left):
@@ -103,7 +103,7 @@ class Slips:
         path are the same, and the same potentials are right.
         """
         labels = [] if row_labels is None else row_labels
-        stages, last = grown(self.begin, self.marks(labels), lambda room, mark: self.steps_from(room, mark, least))
+        stages, last = grown(self.first, self.marks(labels), lambda room, mark: self.steps_from(room, mark, least))
         if len(last) == 0:
             return None
         widths, layers = layers_through(stages, last)
@@ -116,7 +116,7 @@ class Slips:
 
         The path is a list of integers, one for each stage.
         """
-        room = self.begin[1]
+        room = self.first[1]
         labels, copies, samples = [], [], []
         for (left, _), label in zip(self.marks([]), path):
             steps = self.inside(room, left)
@@ -144,7 +144,7 @@ class Slips:
 
     def row_of(self, labels):
         """The row of the blocks of a path, by the labels of a run that does not slip."""
-        return row_for(labels[:self.blocks], self.bits)
+        return row_for(labels[:self.run_blocks], self.bits)
 
 
 def digits_of(number, many):
@@ -193,7 +193,7 @@ def shown_row(slips, way, table):
     if way is None:
         return None
     labels, copies, spent = way
-    others = slips.trellis(labels[:slips.blocks], True)
+    others = slips.trellis(labels[:slips.run_blocks], True)
     if not are_right(others, table):
         return None
     least = least_end(others, table)

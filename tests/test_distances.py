@@ -135,6 +135,18 @@ class Papers(unittest.TestCase):
                            ((0, 0), [0, 1]), ([0, 0], (0, 1)), ([0, None], [0, 1]), (None, [0, 1]), ("00", "01")):
             self.assertIsNone(check_distance(LONE, LINE, 2, ("pair", row, other, table)), (row, other))
 
+    def test_rows_that_become_the_same(self):
+        # Here any two rows are as near as can be: so only what they are counts.
+        deaf = ("sender", ("machine", 1, 1, ((0, 0),), (((0,), (0,)),)), ((1,), (1,)), levels(1))
+        table = distance_paper(deaf, LINE, 1)[3]
+        rows = [[0, 0], [0, 1], [1, 0], [1, 1]]
+        wrong = [[0, 2], [1, 2], [2, 0], [-1, 0], [1, -1], [0, True], [False, 1], [1], [1, 1, 1], [], [0, 0, 1], (0, 1)]
+        for row in rows + wrong:
+            for other in rows + wrong:
+                right = str(row) in map(str, rows) and str(other) in map(str, rows) and row < other
+                told = check_distance(deaf, LINE, 1, ("pair", row, other, table))
+                self.assertEqual(told, (0, row, other) if right else None)
+
     def test_things_of_any_kind(self):
         paper = distance_paper(HALF, LINE, 2)
         self.assertIsNotNone(check_distance(HALF, LINE, 2, paper))

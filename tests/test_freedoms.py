@@ -15,7 +15,7 @@ from support import any_line, any_machine, block_bits, fault, line_of, row_in, r
 
 ONE = line_of((1, 0))
 LINE = line_of((1, 0), (1, 0))
-# Its first output tells nothing of the last bit: rows with all bits changed give the same but for the ends.
+# Rows that differ in all bits from some place on give the same, but for the ends.
 ECHO = ("sender", shift_machine((3, 3)), ((1, 1),), levels(1))
 # The bits are told only from the state 1 on, to which a 1 leads; a pair that parts in the state 0 is farther apart.
 LATE = ("sender", ("machine", 1, 2, ((0, 1), (1, 0)), (((0, 0), (1, 1)), ((0, 0), (0, 1)))), ((1, 1),), levels(1))
@@ -139,7 +139,8 @@ class Papers(unittest.TestCase):
                           (state, beside, ((list(last),),), True), (state, beside, (last,), True),
                           (float(state), beside, ((last,),), True), (state, beside, ((last, last),), True),
                           (state, beside, ((last,), (last,)), True), (state, beside, ((last + (0,),),), True),
-                          (4, beside, ((last,),), True), (state, -1, ((last,),), True), None, 0, "room"):
+                          (4, beside, ((last,),), True), (-1, beside, ((last,),), True), (state, 4, ((last,),), True),
+                          (state, -1, ((last,),), True), None, 0, "room"):
                 self.assertIsNone(shown(ahead + [(wrong, worth)] + behind), wrong)
                 self.assertIsNone(shown(table + [(wrong, worth)]), wrong)
         for thing in ANY:
@@ -271,6 +272,15 @@ class Parted(unittest.TestCase):
                 self.assertEqual(blocks, slow.most_parted(cost))
                 told.add(blocks)
         self.assertLessEqual({0, 1, 2, 3}, told)
+
+    def test_of_several_ways_to_a_room_the_nearest_counts(self):
+        for polys in ((7, 5), (15, 13), (7, 6), (7, 2), (3, 1)):
+            for line in (ONE, LINE, line_of((2, 0), (1, 0))):
+                sender = ("sender", shift_machine(polys), ((1, 1),), levels(1))
+                slow = SlowWays(sender, line)
+                self.assertIsNone(slow.ring())
+                for cost in range(0, 60, 4):
+                    self.assertEqual(most_parted(sender, line, cost), slow.most_parted(cost))
 
 
 class Large(unittest.TestCase):

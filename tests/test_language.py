@@ -1,6 +1,7 @@
 """The rules of the language that a look at the code can tell: it is a small subset of Python."""
 
 import ast
+import builtins
 import unittest
 from pathlib import Path
 
@@ -145,6 +146,39 @@ class Names(unittest.TestCase):
             for name in names_bound(tree):
                 self.assertFalse(name in BUILTINS or name in BARRED, (path, name))
                 self.assertFalse(name.startswith("__") and name != "__init__", (path, name))
+
+    def test_no_name_is_that_of_a_builtin(self):
+        for path, tree in trees():
+            owned = {id(node) for owner in ast.walk(tree) if isinstance(owner, ast.ClassDef) for node in owner.body}
+            # A doctest that has run leaves the name _ among the builtins.
+            taken = set(dir(builtins)) - {"_"}
+            for node in ast.walk(tree):
+                if isinstance(node, ast.FunctionDef) and id(node) not in owned:
+                    self.assertNotIn(node.name, taken, path)
+                elif isinstance(node, ast.arg):
+                    self.assertNotIn(node.arg, taken, path)
+                elif isinstance(node, ast.Name) and isinstance(node.ctx, ast.Store):
+                    self.assertNotIn(node.id, taken, path)
+
+    def test_own_methods_and_attributes_are_no_ones_of_builtin_values(self):
+        taken = {name for kind in (int, str, list, dict, set, tuple, bytes) for name in dir(kind)}
+        for path, owner in nodes(ast.ClassDef):
+            for node in ast.walk(owner):
+                if isinstance(node, ast.FunctionDef) and node.name != "__init__":
+                    self.assertNotIn(node.name, taken, path)
+                if isinstance(node, ast.Attribute) and isinstance(node.ctx, ast.Store):
+                    self.assertNotIn(node.attr, taken, path)
+
+    def test_no_files_import_each_other(self):
+        reached = {
+            path.stem: {node.module.split(".")[-1] for node in ast.walk(tree)
+                        if isinstance(node, ast.ImportFrom) and node.module.startswith("heardtrue.")}
+            for path, tree in trees()
+        }
+        for _ in reached:
+            reached = {name: told | {far for near in told for far in reached[near]} for name, told in reached.items()}
+        for name, told in reached.items():
+            self.assertNotIn(name, told)
 
     def test_imports_and_classes_keep_their_names(self):
         for path, tree in trees():

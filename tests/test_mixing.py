@@ -14,7 +14,8 @@ def mixes(words, n):
 
 
 def sizes():
-    return [(words, n) for words in range(1, 5) for n in range(1, 7)]
+    # In some of the last ones the worst stretch is not the first one.
+    return [(words, n) for words in range(1, 5) for n in range(1, 7)] + [(3, 8), (4, 9), (5, 7), (6, 8)]
 
 
 class Mixes(unittest.TestCase):

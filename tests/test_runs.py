@@ -7,11 +7,11 @@ from heardtrue.lines import cost, lost, spoiled
 from heardtrue.machines import shift_machine
 from heardtrue.potentials import paper_of
 from heardtrue.runs import blocks_in, check_run, hear_run, run_samples
-from heardtrue.senders import tail
+from heardtrue.senders import check_sender, tail
 from heardtrue.smears import run_size, trellis_of
 from heardtrue.symbols import levels, square
 from slow import HALF, LONE, SHIFT, SlowRuns, any_samples, cases, cost_by_hand
-from support import any_points, block_bits, fault, line_of, senders, stands_alone
+from support import any_machine, any_points, block_bits, fault, line_of, senders, stands_alone
 
 LINE = line_of((1, 0), (1, 0))
 ANY = [None, True, False, 0, 1, "", "row", [], (), {}, [0], ("one",), ("tie",), ("row", [0], 0, 1), 1.0, b"one"]
@@ -242,6 +242,36 @@ class Noise(unittest.TestCase):
         noise = [(0, 0)] * len(clear)
         noise[3] = (2, 0)
         self.assertEqual(hear_run(sender, line, 3, spoiled(clear, noise))[0][:3], ("row", [1, 0, 1], 4))
+
+
+class Large(unittest.TestCase):
+    def test_senders_and_lines_of_all_sizes_are_heard(self):
+        source = random.Random(240)
+        four = line_of((3, 0), (1, 1), (0, 1), (1, 0))
+        sixteen = shift_machine((19, 29))
+        parts = [
+            (("sender", sixteen, ((1, 1),), levels(1)), four, 14),
+            (("sender", sixteen, ((1, 1),) * 4, square(4)), LINE, 14),
+            (("sender", sixteen, ((1, 1), (1, 0), (0, 1), (1, 1)), levels(3)), four, 6),
+            (self.wide(source, 16, 1, square(4)), line_of((5, 0), (0, 1)), 8),
+            (self.wide(source, 2, 4, levels(4)), four, 2),
+        ]
+        for sender, line, blocks in parts:
+            row = [source.randrange(2) for _ in range(blocks * block_bits(sender))]
+            clear = run_samples(sender, line, row)
+            self.assertEqual(len(clear), run_size(sender, line, blocks))
+            verdict, paper = hear_run(sender, line, blocks, clear)
+            self.assertEqual(verdict[2] if verdict[0] == "row" else verdict[3], 0)
+            if verdict[0] == "row":
+                self.assertEqual(verdict[1], row)
+            self.assertEqual(check_run(sender, line, blocks, clear, paper), verdict)
+
+    def wide(self, source, states, rows, symbols):
+        """A sender with 2 bits in and 4 out a step, and so many rows in its pattern."""
+        while True:
+            sender = ("sender", any_machine(source, 2, 4, states), ((1, 1, 1, 1),) * rows, symbols)
+            if fault(check_sender, sender) is None:
+                return sender
 
 
 class Kept(unittest.TestCase):
