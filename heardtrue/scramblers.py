@@ -59,23 +59,23 @@ def period(scrambler):
     return steps
 
 
-def fed(feed, row):
-    """The row that a feed makes of a row."""
+def passed(feed, row, back):
+    """The row with the sum of bits ahead added to each bit: of those that come out, or on the way back of the row's."""
     _, width, poly = feed
     window = 0
     out = []
     for bit in row:
-        out.append(bit ^ echo(poly, window))
-        window = slid(width, window, out[-1])
+        more = bit ^ echo(poly, window)
+        out.append(more)
+        window = slid(width, window, bit if back else more)
     return out
+
+
+def fed(feed, row):
+    """The row that a feed makes of a row."""
+    return passed(feed, row, False)
 
 
 def unfed(feed, row):
     """The row of which a feed made this one."""
-    _, width, poly = feed
-    window = 0
-    out = []
-    for bit in row:
-        out.append(bit ^ echo(poly, window))
-        window = slid(width, window, bit)
-    return out
+    return passed(feed, row, True)
