@@ -1,7 +1,7 @@
 """How far apart the runs of different rows are at least, with papers that show it."""
 
 from heardtrue.kinds import is_list_between, is_named
-from heardtrue.pairs import Pairs, differences
+from heardtrue.pairs import Pairs, differences, least_distance
 from heardtrue.points import plus, total
 from heardtrue.potentials import are_right, least_end, potentials_of
 from heardtrue.runs import run_samples
@@ -49,8 +49,7 @@ def nearest_pair(sender, line, blocks):
 
 def distance(sender, line, blocks):
     """The distance, or None for no blocks."""
-    nearest = nearest_pair(sender, line, blocks)
-    return None if nearest is None else nearest[0]
+    return least_distance(Pairs([(sender, line)]), blocks)
 
 
 def distance_paper(sender, line, blocks):

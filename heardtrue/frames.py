@@ -49,6 +49,17 @@ def rows_for(link, message):
     return [row[at:at + many] for at in range(0, len(row), many)]
 
 
+def sent_symbols(link):
+    """For each symbol, in the order of sending, its word, its place in it, and the runs in which its bits are sent."""
+    many = link.code[1]
+    bits, _ = sizes(link.sender)
+    room = link.blocks() * bits
+    return [
+        (word, place, list(range(at * many // room, (at * many + many - 1) // room + 1)))
+        for at, (word, place) in enumerate(order_of(link.mix, link.words, link.code[3]))
+    ]
+
+
 def frame_points(link, message):
     """The points of a frame."""
     points = list(link.opening) + [(0, 0)] * (link.slack + SILENCE)
@@ -72,6 +83,11 @@ def message_in(link, row):
     if any(message[length:]):
         return "filling"
     return message[:length]
+
+
+def message_of(link, words):
+    """The message that whole words tell, or the name of what is wrong with them."""
+    return message_in(link, row_for([symbol for word in words for symbol in word[:link.code[4]]], link.code[1]))
 
 
 def frame_samples(link, message, *, place, turn, number):

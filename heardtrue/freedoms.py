@@ -6,7 +6,7 @@ from heardtrue.composing import found_from, walk_to, way_round
 from heardtrue.distances import are_rows, nearest_pair, rows_of_pairs, squared_distance
 from heardtrue.kinds import is_between, is_integer, is_named, is_point, is_tuple
 from heardtrue.lines import reach
-from heardtrue.pairs import Pairs
+from heardtrue.pairs import Pairs, least_behind
 from heardtrue.senders import sizes
 
 
@@ -58,16 +58,6 @@ def least_blocks(pairs, free):
         blocks += 1
         costs = least_behind(pairs, costs, free)
     return blocks
-
-
-def least_behind(pairs, costs, most):
-    """The least distances to come to the rooms behind a block, as far as they are at most a number."""
-    behind = {}
-    for room, spent in costs.items():
-        for _, after, distance in pairs.least_steps(room, None):
-            if spent + distance <= behind.get(after, most):
-                behind[after] = spent + distance
-    return behind
 
 
 def free_paper(sender, line):

@@ -16,6 +16,11 @@ def is_tuple(thing, many):
     return isinstance(thing, tuple) and len(thing) == many
 
 
+def is_list(thing, many):
+    """True for a list of so many things."""
+    return isinstance(thing, list) and len(thing) == many
+
+
 def is_tuple_between(thing, many, low, high):
     """True for a tuple of so many integers from low to high."""
     return is_tuple(thing, many) and all([is_between(item, low, high) for item in thing])
@@ -33,7 +38,7 @@ def is_named(thing, name, many):
 
 def is_list_between(thing, many, low, high):
     """True for a list of so many integers from low to high."""
-    return isinstance(thing, list) and len(thing) == many and all([is_between(item, low, high) for item in thing])
+    return is_list(thing, many) and all([is_between(item, low, high) for item in thing])
 
 
 def is_point(thing):

@@ -179,3 +179,48 @@ class Pairs:
             _, room, distance = self.tail_step(room, left)
             spent += distance
         return spent + self.silence(room)
+
+
+def least_behind(pairs, costs, most):
+    """The least distances to come to the rooms behind a block, as far as they are at most a number."""
+    behind = {}
+    for room, spent in costs.items():
+        for _, after, distance in pairs.least_steps(room, None):
+            if spent + distance <= behind.get(after, most):
+                behind[after] = spent + distance
+    return behind
+
+
+def settled(pairs, costs, blocks, most):
+    """The least distances to come to the rooms behind so many blocks, as far as they are at most a number."""
+    for _ in range(blocks):
+        behind = least_behind(pairs, costs, most)
+        # What does not change behind one block does not change behind more of them.
+        if behind == costs:
+            break
+        costs = behind
+    return costs
+
+
+def least_home(pairs, costs, most):
+    """The least distance of rows that have parted, with their tails, or None if it is greater than a number."""
+    spent = min([spent + pairs.home(room) for room, spent in costs.items() if room[3]], default=None)
+    return None if spent is None or spent > most else spent
+
+
+def searched(within):
+    """The least distance, by a function that tells it if it is at most a number, and otherwise None."""
+    most = 0
+    # Only what is near is looked at: with a small bound few rooms can be come to.
+    while True:
+        found = within(most)
+        if found is not None:
+            return found
+        most = 2 * most + 1
+
+
+def least_distance(pairs, blocks):
+    """The distance of all rows of so many blocks, or None for no blocks."""
+    if blocks == 0:
+        return None
+    return searched(lambda most: least_home(pairs, settled(pairs, {pairs.begin(0): 0}, blocks, most), most))

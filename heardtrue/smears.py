@@ -89,16 +89,30 @@ def trellis_of(sender, line, blocks, samples):
     """The trellis of a run for samples."""
     if len(samples) != run_size(sender, line, blocks):
         raise ShapeError("samples")
-    _, many = sizes(sender)
     stages, rooms = stages_of(sender, line, blocks)
-    paid = [paid_stage(stage, samples[at * many:at * many + many]) for at, stage in enumerate(stages)]
-    rest = samples[len(stages) * many:]
-    paid.append({room: [(0, None, cost(rest, outward(line, room[1])))] for room in rooms})
+    windows = windows_of(sender, samples, len(stages))
+    return paid_trellis(
+        stages, rooms, lambda at, clear: cost(windows[at], clear), lambda room: outward(line, room[1]))
+
+
+def windows_of(sender, samples, blocks):
+    """The samples of so many blocks, and those of the silence."""
+    _, many = sizes(sender)
+    cut = blocks * many
+    return [samples[at:at + many] for at in range(0, cut, many)] + [samples[cut:]]
+
+
+def paid_trellis(stages, rooms, pay, silent):
+    """The trellis of stages whose steps tell samples, with the rooms behind them.
+
+    One function tells what the samples of a step cost at a time, another one the samples of the silence of a room, or
+    None if no run ends there.
+    """
+    paid = [
+        {room: [(label, after, pay(at, clear)) for label, after, clear in steps] for room, steps in stage.items()}
+        for at, stage in enumerate(stages)
+    ]
+    last = {room: silent(room) for room in rooms}
+    many = len(stages)
+    paid.append({room: [] if clear is None else [(0, None, pay(many, clear))] for room, clear in last.items()})
     return trellis_through(paid)
-
-
-def paid_stage(stage, samples):
-    """A stage whose steps tell the costs of their samples against those that came."""
-    return {
-        room: [(label, after, cost(samples, clear)) for label, after, clear in steps] for room, steps in stage.items()
-    }

@@ -57,9 +57,18 @@ def edges_of(layer, room):
 
 def edge_with(layer, room, label):
     """The edge from a room with a label, or None."""
-    for edge in layer:
-        if edge[0] == room and edge[2] == label:
-            return edge
+    # The edges of a layer ascend by room and label.
+    low = 0
+    high = len(layer)
+    while low < high:
+        middle = (low + high) // 2
+        at, _, told, _ = layer[middle]
+        if (at, told) < (room, label):
+            low = middle + 1
+        else:
+            high = middle
+    if low < len(layer) and layer[low][0] == room and layer[low][2] == label:
+        return layer[low]
     return None
 
 

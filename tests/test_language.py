@@ -18,8 +18,9 @@ BUILTINS = (
 ).split()
 METHODS = (
     "append clear copy count endswith extend find get index insert items join keys pop remove replace reverse setdefault "
-    "split startswith strip update values add discard bit_length __init__"
+    "split startswith strip update values add discard bit_length partition removeprefix __init__"
 ).split()
+LIBRARY = {"heapq": ("heappush", "heappop"), "math": ("isqrt",)}
 BARRED = (
     "mro elements open input law register type eval exec exit dir help id vars globals locals compile sys os map filter "
     "next iter hash round format"
@@ -44,6 +45,8 @@ def names_bound(tree):
             found.append(node.arg)
         elif isinstance(node, ast.alias):
             found.append(node.asname or node.name)
+        elif isinstance(node, ast.ExceptHandler) and node.name is not None:
+            found.append(node.name)
         elif isinstance(node, ast.Name) and not isinstance(node.ctx, ast.Load):
             found.append(node.id)
     return found
@@ -84,8 +87,8 @@ class Words(unittest.TestCase):
         for path, tree in trees():
             for node in [node for node in ast.walk(tree) if isinstance(node, ast.ImportFrom)]:
                 self.assertEqual(node.level, 0)
-                if node.module == "heapq":
-                    self.assertLessEqual({alias.name for alias in node.names}, {"heappush", "heappop"})
+                if node.module in LIBRARY:
+                    self.assertLessEqual({alias.name for alias in node.names}, set(LIBRARY[node.module]))
                     continue
                 package, name = node.module.split(".")
                 self.assertEqual(package, "heardtrue")
@@ -117,7 +120,7 @@ class Words(unittest.TestCase):
         for path, tree in trees():
             called = [node.func for node in ast.walk(tree) if isinstance(node, ast.Call)]
             for node in ast.walk(tree):
-                if isinstance(node, ast.Name) and node.id in ("heappush", "heappop"):
+                if isinstance(node, ast.Name) and node.id in sum(LIBRARY.values(), ()):
                     self.assertIn(node, called, path)
 
     def test_no_percent_signs_and_escapes_in_strings(self):
@@ -129,7 +132,7 @@ class Words(unittest.TestCase):
             for node in ast.walk(tree):
                 if isinstance(node, ast.Constant) and isinstance(node.value, str) and node not in docstrings:
                     self.assertNotIn("%", node.value, path)
-            self.assertNotIn("\\", path.read_text(), path)
+            self.assertNotIn("\\", path.read_text().replace('"\\n"', ""), path)
 
 
 class Names(unittest.TestCase):
