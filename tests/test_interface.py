@@ -58,9 +58,33 @@ NAMES = {
     "frames": ["message_bits(link, message)", "words_for(link, message)", "rows_for(link, message)",
                "frame_points(link, message)", "message_in(link, row)",
                "frame_samples(link, message, *, place, turn, number)"],
+    "hearing": ["hear(link, samples)"],
+    "audits": ["audit(link, samples, paper)"],
+    "budgets": ["run_budget(link)", "opening_budget(link)", "spare_runs(link)", "promise(link)"],
+    "repeats": ["check_parts(parts)", "repeat_trellis(parts, blocks, heard)", "hear_repeats(parts, blocks, heard)",
+                "check_repeats(parts, blocks, heard, paper)", "repeat_distance(parts, blocks)"],
+    "ends": ["told_ticks(messages, wait, delay, k)"],
+    "notation": ["read_link(text)", "write_link(link)"],
+    "console": ["run_script(text)"],
+    "weighing": ["exact_paper(trellis)", "check_exact(trellis, paper)", "weight(code, most, heard, sure, word)",
+                 "is_weighed(code, most, heard, sure, word)", "weigh(code, most, heard, sure)",
+                 "hear_weighed(link, samples)", "audit_weighed(link, samples, paper)", "is_spread(link)",
+                 "frame_budget(link)"],
+    "learning": ["check_known(points, taps, bound)", "learn(points, taps, bound, samples)",
+                 "line_distance(points, taps, bound)"],
+    "learnt": ["check_learnt(points, taps, bound, samples, paper)"],
+    "lists": ["best_paths(trellis, many)", "paths_within(trellis, cost, most)", "apart_from(trellis, paths)",
+              "list_paper(trellis, cost, most)", "check_list(trellis, cost, paper)",
+              "hear_list(sender, line, blocks, samples, *, cost, most)",
+              "check_heard(sender, line, blocks, samples, *, cost, paper)"],
+    "rings": ["ring_samples(sender, line, state, row)", "ring_trellis(sender, line, blocks, samples, state)",
+              "hear_ring(sender, line, blocks, samples)", "check_ring(sender, line, blocks, samples, paper)"],
+    "prices": ["prices(sender, line, blocks, samples)", "prices_paper(sender, line, blocks, samples)",
+               "check_prices(sender, line, blocks, samples, paper)", "bit_distance(sender, line, blocks, place)"],
 }
 CLASSES = {
     "errors": ["HeardError", "ShapeError", "ReadError"], "pairs": ["Pairs"], "fields": ["Field"], "links": ["Link"],
+    "ends": ["End"],
 }
 METHODS = {
     ("pairs", "Pairs"): ["__init__(self, parts)", "begin(self, state)", "is_together(self, room)",
@@ -70,6 +94,8 @@ METHODS = {
     ("links", "Link"): ["__init__(self, *, opening, lines, slack, sender, code, words, mix, check, scrambler, runs)",
                         "told_bits(self)", "sent_bits(self)", "most_bytes(self)", "blocks(self)", "run_points(self)",
                         "run_start(self, run)", "frame_points(self)", "many_samples(self)"],
+    ("ends", "End"): ["__init__(self, window, numbers, wait)", "give(self, message)", "heard(self, frame)",
+                      "tick(self, now)", "taken(self)", "is_done(self)"],
 }
 
 EXAMPLES = {
@@ -243,6 +269,101 @@ True
 >>> find(opening, lines, 2, [(0, 0), (0, 1), (-2, 2), (-2, 2), (0, 2)])
 (1, 1, 1)
 """,
+    "repeats": r'''
+>>> from heardtrue.machines import shift_machine
+>>> from heardtrue.repeats import hear_repeats, repeat_distance
+>>> from heardtrue.symbols import levels
+>>> machine, one = shift_machine((3, 1)), ("line", ((1, 0),))
+>>> parts = [(("sender", machine, ((1, 0),), levels(1)), one), (("sender", machine, ((0, 1),), levels(1)), one)]
+>>> [repeat_distance(parts[:1], 1), repeat_distance(parts[1:], 1), repeat_distance(parts, 1)]
+[8, 4, 12]
+>>> hear_repeats(parts, 1, [[(1, 0), None], [None, (1, 0)]])[0]
+('row', [1], 0, 8)
+''',
+    "ends": r'''
+>>> from heardtrue.ends import End, told_ticks
+>>> one = End(2, 4, 5)
+>>> two = End(2, 4, 5)
+>>> one.give([7])
+>>> one.give([8, 9])
+>>> [one.tick(0), one.tick(1), one.tick(2)]
+[[[0, 0, 7]], [[0, 1, 8, 9]], []]
+>>> two.heard([0, 1, 8, 9])
+>>> [two.taken(), two.tick(2)]
+[[], [[1, 0, 2]]]
+>>> two.heard([0, 0, 7])
+>>> [two.taken(), two.tick(3), told_ticks(2, 5, 1, 2)]
+[[[7], [8, 9]], [[1, 2, 0]], 52]
+''',
+    "console": r'''
+>>> from heardtrue.console import run_script
+>>> from heardtrue.notation import read_link, write_link
+>>> text = """opening 4,0 0,4 4,0
+... line 1,0
+... slack 1
+... machine 1 1
+... state 0:0 0:1
+... pattern 1
+... symbols -1,0 1,0
+... code 4 19 15 5
+... words 1
+... mix 1 15
+... check 4 19
+... scramble 4 19 1
+... runs 2
+... """
+>>> write_link(read_link(text)) == text
+True
+>>> run_script(text + "distance 0 2\nring 0\nsend 1 0 0 a5\nlose 0\nshow 0 3\nhear\naudit\nsend 2 0 0 -\n")
+['distance 4', 'ring no', 'samples 74', 'show lost 4,0 0,4', 'heard a5', 'taken a5', 'error place']
+''',
+    "weighing": r'''
+>>> from heardtrue.weighing import is_weighed, weigh, weight
+>>> code = ("words", 2, 7, 3, 1)
+>>> [weigh(code, 4, [1, 1, 2], [0, 1, 4]), weight(code, 4, [1, 1, 2], [0, 1, 4], [2, 2, 2])]
+[[2, 2, 2], 39]
+>>> [is_weighed(code, 4, [1, 1, 2], [0, 1, 4], [2, 2, 2]), weight(code, 4, [1, 1, 2], [0, 1, 4], [1, 1, 1])]
+[True, 57]
+''',
+    "learnt": r'''
+>>> from heardtrue.learning import learn, line_distance
+>>> points = ((1, 0), (1, 0), (-1, 0))
+>>> line_distance(points, 1, 2)
+(3, ((-1, 0),))
+>>> learn(points, 2, 1, [(1, 0), (1, 1), (-1, 1), (0, -1)])[0]
+('line', ((1, 0), (0, 1)), 0)
+''',
+    "lists": r'''
+>>> from heardtrue.lists import apart_from, best_paths, check_list, list_paper, paths_within
+>>> trellis = ("trellis", (1, 2, 1), [[(0, 0, 0, 3), (0, 1, 1, 1)], [(0, 0, 0, 0), (1, 0, 0, 2), (1, 0, 1, 4)]], (0,))
+>>> [best_paths(trellis, 2), paths_within(trellis, 3, 1)]
+[[([0, 0], 3), ([1, 0], 3)], None]
+>>> apart_from(trellis, [[0, 0], [1, 0]])[1:3]
+((1, 4, 3), [[(0, 2, 0, 3), (0, 3, 1, 1)], [(0, 0, 0, 0), (1, 0, 0, 2), (1, 0, 1, 4), (2, 1, 0, 0), (3, 2, 0, 2), (3, 0, 1, 4)]])
+>>> check_list(trellis, 4, list_paper(trellis, 4, 9))
+[([0, 0], 3), ([1, 0], 3)]
+''',
+    "rings": r'''
+>>> from heardtrue.machines import shift_machine
+>>> from heardtrue.rings import hear_ring, ring_samples
+>>> from heardtrue.symbols import levels
+>>> sender, line = ("sender", shift_machine((3, 1)), ((1, 1),), levels(1)), ("line", ((1, 0),))
+>>> ring_samples(sender, line, 1, [0, 1])
+[(1, 0), (1, 0), (1, 0), (-1, 0)]
+>>> hear_ring(sender, line, 2, ring_samples(sender, line, 1, [0, 1]))[0]
+('row', 1, [0, 1], 0, 8)
+''',
+    "prices": r'''
+>>> from heardtrue.machines import shift_machine
+>>> from heardtrue.prices import bit_distance, prices
+>>> from heardtrue.symbols import levels
+>>> sender = ("sender", shift_machine((1,)), ((1,),), levels(1))
+>>> line = ("line", ((1, 0), (1, 0)))
+>>> prices(sender, line, 2, [(1, 0), (0, 0), None])
+[(4, 0), (0, 4)]
+>>> [bit_distance(sender, line, 2, 0), bit_distance(sender, line, 2, 1)]
+[8, 8]
+''',
 }
 
 
