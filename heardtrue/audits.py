@@ -9,16 +9,25 @@ from heardtrue.words import is_mended
 
 def audit(link, samples, paper):
     """The message that a thing of any kind shows if it is a paper of a frame that is taken, or None."""
-    if not is_named(paper, "frame", 4) or not is_found(link, samples, paper[1]):
+    verdicts = shown_verdicts(link, samples, paper, "frame", check_run)
+    if verdicts is None:
         return None
-    _, found, runs, words = paper
-    verdicts = shown_runs(link, samples, found, runs, check_run)
-    if verdicts is None or not is_list(words, link.words):
-        return None
-    told = list(zip(heard_words(link, verdicts), gaps_of(link, verdicts), words))
+    told = list(zip(heard_words(link, verdicts), gaps_of(link, verdicts), paper[3]))
     if not all([is_mended(link.code, heard, gaps, word) for heard, gaps, word in told]):
         return None
-    return shown_message(link, words)
+    return shown_message(link, paper[3])
+
+
+def shown_verdicts(link, samples, paper, name, check):
+    """The verdicts on the runs that a thing of any kind shows, or None.
+
+    It must be a paper with this name, the triple that is found, papers of the runs for which a function tells verdicts,
+    and a list of as many things as there are words.
+    """
+    if not is_named(paper, name, 4) or not is_found(link, samples, paper[1]):
+        return None
+    _, found, runs, words = paper
+    return shown_runs(link, samples, found, runs, check) if is_list(words, link.words) else None
 
 
 def is_found(link, samples, thing):

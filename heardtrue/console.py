@@ -88,16 +88,9 @@ def show(script, first, last):
     return [" ".join(["show", *shown])]
 
 
-def heard_samples(script):
-    """The answer to the samples, and its paper or None."""
-    if len(script.samples) == 0:
-        raise ShapeError("samples")
-    return hear(script.link, script.samples)
-
-
 def write_answer(script):
-    """Hears the samples, and writes the answer."""
-    answer, _ = heard_samples(script)
+    """Hears the samples, and writes the answer; without samples their number is wrong."""
+    answer, _ = hear(script.link, script.samples)
     if answer[0] == "heard":
         return [f"heard {message_word(answer[1])}"]
     return [f"refused {answer[1]} {answer[2]}"]
@@ -105,7 +98,7 @@ def write_answer(script):
 
 def write_audit(script):
     """Hears the samples, and writes what the audit says of the paper."""
-    _, paper = heard_samples(script)
+    _, paper = hear(script.link, script.samples)
     message = audit(script.link, script.samples, paper)
     return ["not taken" if message is None else f"taken {message_word(message)}"]
 

@@ -8,7 +8,7 @@ from heardtrue.lines import sent, turned_line
 from heardtrue.mixing import order_of
 from heardtrue.scramblers import scrambled
 from heardtrue.senders import points_for, sizes, tied
-from heardtrue.symbols import bits_of, numbers_in, row_for
+from heardtrue.symbols import numbers_in, row_for
 from heardtrue.words import encode
 
 

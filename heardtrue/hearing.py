@@ -11,17 +11,22 @@ from heardtrue.words import mend
 
 def hear(link, samples):
     """The answer to samples, and its paper, or None if the frame is refused."""
-    if len(samples) != link.many_samples():
-        raise ShapeError("samples")
-    found = found_in(link, samples)
-    line = line_found(link, found)
-    told = [hear_run(link.sender, line, link.blocks(), window) for window in windows(link, found, samples)]
-    verdicts = [verdict for verdict, _ in told]
+    found, verdicts, papers = heard_runs(link, samples, hear_run)
     tries = [
         mend(link.code, heard, gaps) for heard, gaps in zip(heard_words(link, verdicts), gaps_of(link, verdicts))
     ]
     words = [None if mended is None else mended[0] for mended in tries]
-    return answered(link, words, ("frame", found, [paper for _, paper in told], words))
+    return answered(link, words, ("frame", found, papers, words))
+
+
+def heard_runs(link, samples, hear_one):
+    """The triple that is found, the verdicts on the runs, and their papers, as a function hears a run."""
+    if len(samples) != link.many_samples():
+        raise ShapeError("samples")
+    found = found_in(link, samples)
+    line = line_found(link, found)
+    told = [hear_one(link.sender, line, link.blocks(), window) for window in windows(link, found, samples)]
+    return (found, [verdict for verdict, _ in told], [paper for _, paper in told])
 
 
 def answered(link, words, paper):

@@ -216,7 +216,7 @@ def searched(within):
         found = within(most)
         if found is not None:
             return found
-        most = 2 * most + 1
+        most += most // 8 + 1
 
 
 def least_distance(pairs, blocks):

@@ -2,10 +2,14 @@
 
 from heardtrue.kinds import is_list, is_named, is_tuple
 from heardtrue.pairs import Pairs, least_home, searched, settled
-from heardtrue.potentials import are_right, cost_of_any, is_table, potentials_of
+from heardtrue.potentials import are_right, cost_of_any, is_bounded, is_table, potentials_of, row_behind
 from heardtrue.senders import sizes
 from heardtrue.smears import trellis_of
-from heardtrue.symbols import bits_of
+
+
+def turned_round(layer):
+    """The edges of a layer that lead from the later rooms to the earlier ones."""
+    return [(after, room, label, cost) for room, after, label, cost in layer]
 
 
 def ahead_of(trellis):
@@ -13,20 +17,9 @@ def ahead_of(trellis):
     _, widths, layers, ends = trellis
     table = [[0 if room in ends else None for room in range(widths[-1])]]
     for layer, width in zip(reversed(layers), widths[-2::-1]):
-        table.append(row_ahead(layer, width, table[-1]))
+        table.append(row_behind(table[-1], turned_round(layer), width))
     table.reverse()
     return table
-
-
-def row_ahead(layer, width, behind):
-    """The least costs from the rooms ahead of a layer, by those of the rooms behind it."""
-    row = [None] * width
-    for room, after, _, cost in layer:
-        if behind[after] is not None:
-            spent = cost + behind[after]
-            if row[room] is None or spent < row[room]:
-                row[room] = spent
-    return row
 
 
 def are_right_ahead(trellis, thing):
@@ -36,16 +29,7 @@ def are_right_ahead(trellis, thing):
         return False
     if not all([thing[-1][end] is not None and thing[-1][end] <= 0 for end in ends]):
         return False
-    return all([is_bounded_ahead(layer, thing[at], thing[at + 1]) for at, layer in enumerate(layers)])
-
-
-def is_bounded_ahead(layer, row, behind):
-    """True if each edge to a room with an integer comes from one whose integer is not greater than the sum."""
-    for room, after, _, cost in layer:
-        if behind[after] is not None:
-            if row[room] is None or row[room] > behind[after] + cost:
-                return False
-    return True
+    return all([is_bounded(turned_round(layer), thing[at + 1], thing[at]) for at, layer in enumerate(layers)])
 
 
 def least_edges(layer, row, behind):

@@ -25,11 +25,11 @@ class PartRooms:
     """The rooms of runs that come in parts, each one a tuple with the room of each part, and the steps from them."""
 
     def __init__(self, parts):
-        self.sides = [Rooms(sender, line) for sender, line in parts]
+        self.part_rooms = [Rooms(sender, line) for sender, line in parts]
 
     def steps(self, room, left):
         """The steps from a room, with a list of the samples of all parts."""
-        told = [side.steps(inner, left) for side, inner in zip(self.sides, room)]
+        told = [side.steps(inner, left) for side, inner in zip(self.part_rooms, room)]
         return [step_of_all(beside) for beside in zip(*told)]
 
 
@@ -45,7 +45,7 @@ def repeat_trellis(parts, blocks, heard):
         raise ShapeError("samples")
     rooms = PartRooms(parts)
     begin = tuple([first_room(line) for _, line in parts])
-    stages, last = grown(begin, rooms.sides[0].marks(blocks), rooms.steps)
+    stages, last = grown(begin, rooms.part_rooms[0].marks(blocks), rooms.steps)
     windows = [windows_of(sender, samples, len(stages)) for (sender, _), samples in zip(parts, heard)]
     return paid_trellis(
         stages, last,

@@ -1,12 +1,11 @@
 """Frames that are heard by weighing: how sure each run is plays a part in how its symbols are mended."""
 
-from heardtrue.audits import is_found, shown_message, shown_runs
+from heardtrue.audits import shown_message, shown_verdicts
 from heardtrue.budgets import run_budget, touches
 from heardtrue.distances import distance
-from heardtrue.errors import ShapeError
 from heardtrue.frames import sent_symbols
-from heardtrue.hearing import answered, found_in, heard_words, line_found, windows
-from heardtrue.kinds import is_list, is_named
+from heardtrue.hearing import answered, heard_runs, heard_words
+from heardtrue.kinds import is_named
 from heardtrue.potentials import cost_of_any, shown_and_paper, shown_one, shown_tie
 from heardtrue.runs import verdict_of
 from heardtrue.smears import trellis_of
@@ -82,18 +81,18 @@ def weigh(code, most, heard, sure):
 
 def hear_weighed(link, samples):
     """The answer to samples by weighing, and its paper, or None if the frame is refused."""
-    if len(samples) != link.many_samples():
-        raise ShapeError("samples")
-    found = found_in(link, samples)
-    line = line_found(link, found)
-    told = [hear_exact(link.sender, line, link.blocks(), window) for window in windows(link, found, samples)]
-    verdicts = [verdict for verdict, _ in told]
-    most = distance(link.sender, line, link.blocks())
+    found, verdicts, papers = heard_runs(link, samples, hear_exact)
+    most = distance_over(link, found)
     words = [
         weigh(link.code, most, heard, sure)
         for heard, sure in zip(heard_words(link, verdicts), sure_words(link, most, verdicts))
     ]
-    return answered(link, words, ("weighed", found, [paper for _, paper in told], words))
+    return answered(link, words, ("weighed", found, papers, words))
+
+
+def distance_over(link, found):
+    """The distance of the runs over the line that is found; its turn plays no part."""
+    return distance(link.sender, link.lines[found[2]], link.blocks())
 
 
 def hear_exact(sender, line, blocks, samples):
@@ -126,17 +125,14 @@ def sure_words(link, most, verdicts):
 
 def audit_weighed(link, samples, paper):
     """The message that a thing of any kind shows if it is a paper of a frame by weighing that is taken, or None."""
-    if not is_named(paper, "weighed", 4) or not is_found(link, samples, paper[1]):
+    verdicts = shown_verdicts(link, samples, paper, "weighed", check_exact_run)
+    if verdicts is None:
         return None
-    _, found, runs, words = paper
-    verdicts = shown_runs(link, samples, found, runs, check_exact_run)
-    if verdicts is None or not is_list(words, link.words):
-        return None
-    most = distance(link.sender, line_found(link, found), link.blocks())
-    told = list(zip(heard_words(link, verdicts), sure_words(link, most, verdicts), words))
+    most = distance_over(link, paper[1])
+    told = list(zip(heard_words(link, verdicts), sure_words(link, most, verdicts), paper[3]))
     if not all([is_weighed(link.code, most, heard, sure, word) for heard, sure, word in told]):
         return None
-    return shown_message(link, words)
+    return shown_message(link, paper[3])
 
 
 def is_spread(link):

@@ -189,6 +189,10 @@ class Distances(unittest.TestCase):
         points = tuple((x, 0) for x in (1, 2, 3, 4, 5, 6, 5, 4, 3, 2, 1))
         self.assertEqual(line_distance(points, 3, 1), (6, ((-1, 0), (2, 0), (-1, 0))))
         self.assertEqual(line_distance(points, 2, 1)[0], 12)
+        # The third differences of these points are 1, -3, 3, -1 and many 0: but parts of 3 need a bound of 2.
+        points = tuple((x, 0) for x in (1, 3, 6, 10, 12, 12, 10, 6, 3, 1))
+        self.assertEqual(line_distance(points, 4, 2), (20, ((-1, 0), (3, 0), (-3, 0), (1, 0))))
+        self.assertEqual(line_distance(points, 4, 1), (24, ((-1, 0), (2, 0), (-1, 0), (0, 0))))
 
     def test_noise_below_a_quarter(self):
         source = random.Random(407)

@@ -17,7 +17,7 @@ from heardtrue.weighing import (
     audit_weighed, check_exact, exact_paper, frame_budget, hear_weighed, is_spread, is_weighed, weigh, weight,
 )
 from heardtrue.words import encode
-from slow import LONE as SINGLE, SHIFT, any_samples, cases
+from slow import any_samples, cases
 from slowlinks import (
     CUT, LONE, SOON, TINY, all_words, answer_by_hand, bad_words, found_by_hand, link_of, run_places, runs_touched,
     samples_of_words, starts_by_hand, symbols_by_hand, verdicts_by_hand, windows_by_hand,
