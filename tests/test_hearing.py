@@ -4,6 +4,7 @@ import random
 import unittest
 from itertools import combinations
 
+from heardtrue.audits import audit
 from heardtrue.errors import ShapeError
 from heardtrue.frames import frame_samples, words_for
 from heardtrue.hearing import hear
@@ -135,6 +136,24 @@ class Heard(unittest.TestCase):
                     samples = [None if source.random() < likely else point for point in any_points(source, many, most)]
                     names.add(self.agrees(fields, samples)[1])
         self.assertIn("word", names)
+
+
+    def test_the_greatest_numbers_of_all_parts(self):
+        source = random.Random(305)
+        lines = tuple(line_of((3, 0), (at, 1), (0, -at)) for at in range(4))
+        fields = dict(GREAT, opening=tuple(any_points(source, 64, 1000)), lines=lines)
+        link = link_of(fields)
+        message = [source.randrange(256) for _ in range(link.most_bytes())]
+        samples = frame_samples(link, message, place=50, turn=3, number=2)
+        self.assertEqual(len(samples), 64 + 53 + 8 * (1021 + 3) + 50)
+        samples = noisy(source, samples, 1, 0.1)
+        # Of 223 symbols that a word has more, one run that is lost takes 32.
+        start = 50 + link.run_start(6)
+        samples = lost(samples, list(range(start, start + link.run_points())))
+        answer, paper = hear(link, samples)
+        self.assertEqual((answer, paper[1]), (("heard", message), (50, 3, 2)))
+        self.assertEqual([told[0] for told in paper[2]], ["one"] * 6 + ["tie", "one"])
+        self.assertEqual(audit(link, samples, paper), message)
 
 
 class Gaps(unittest.TestCase):
